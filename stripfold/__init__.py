@@ -1,0 +1,1 @@
+"""Stripfold: a strip of stamps folded to a pile."""
