@@ -1,5 +1,6 @@
 """Which piles can be folded: creases of one side that cross."""
 
+from stripfold.errors import Crossing
 from stripfold.piles import places
 
 
@@ -22,3 +23,10 @@ def crossing(pile):
             if cross(at, one, other):
                 return (one, other)
     return None
+
+
+def foldable_places(pile):
+    pair = crossing(pile)
+    if pair is not None:
+        raise Crossing(pair[0], pair[1])
+    return places(pile)
